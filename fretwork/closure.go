@@ -4,6 +4,7 @@ import (
 	"slices"
 
 	"fretwork/api"
+	"fretwork/tables"
 	"fretwork/values"
 )
 
@@ -36,16 +37,33 @@ func (w *Work) settle(next values.Domains, waiting marks) {
 	for !w.emptied(next) {
 		k := slices.Index(waiting[:], true)
 		if k < 0 {
-			w.domains = next
+			w.replace(next)
 			return
 		}
-		narrowed := w.tables[k].Narrow(next)
+		narrowed := w.narrow(w.tables[k], next)
 		w.wake(&waiting, next, narrowed)
 		// What a table leaves it supports: it need not be woken by its own change.
 		waiting[k] = false
 		next = narrowed
 	}
-	w.domains = values.Domains{}
+	w.replace(values.Domains{})
+}
+
+// narrow asks t, and writes on the trail what it was.
+func (w *Work) narrow(t tables.Table, domains values.Domains) values.Domains {
+	was := t.State()
+	w.trail.Write(func() { tables.PutBack(t, was) })
+	return t.Narrow(domains)
+}
+
+// replace makes next the domains, and writes on the trail what they were.
+func (w *Work) replace(next values.Domains) {
+	was := w.domains
+	if next == was {
+		return
+	}
+	w.trail.Write(func() { w.domains = was })
+	w.domains = next
 }
 
 func (w *Work) emptied(domains values.Domains) bool {

@@ -6,6 +6,7 @@ import (
 
 	"fretwork/api"
 	"fretwork/tables"
+	"fretwork/trail"
 	"fretwork/values"
 )
 
@@ -14,7 +15,7 @@ type Work struct {
 	sizes   []int
 	domains values.Domains
 	tables  []tables.Table
-	level   int
+	trail   trail.Trail
 }
 
 // New makes a fretwork (P3).
@@ -39,7 +40,7 @@ func (w *Work) Post(t api.Table) api.Errno {
 		return api.ErrArg
 	case len(w.tables) == api.MaxTables:
 		return api.ErrFull
-	case w.level != 0:
+	case w.trail.Level() != 0:
 		return api.ErrLevel
 	case w.dead():
 		return api.ErrDead
@@ -70,10 +71,22 @@ func (w *Work) Remove(v, value int) api.Errno {
 }
 
 // Push a level (P6).
-func (w *Work) Push() api.Errno { return api.OK }
+func (w *Work) Push() api.Errno {
+	if w.trail.Level() == api.MaxLevel {
+		return api.ErrFull
+	}
+	w.trail.Push()
+	return api.OK
+}
 
 // Pop a level (P6).
-func (w *Work) Pop() api.Errno { return api.OK }
+func (w *Work) Pop() api.Errno {
+	if w.trail.Level() == 0 {
+		return api.ErrLevel
+	}
+	w.trail.Pop()
+	return api.OK
+}
 
 // Domain of a variable (P7).
 func (w *Work) Domain(v int) ([]int, api.Errno) {
@@ -85,7 +98,7 @@ func (w *Work) Domain(v int) ([]int, api.Errno) {
 
 // Look at it (P7).
 func (w *Work) Look() api.Look {
-	look := api.Look{Vars: len(w.sizes), Tables: len(w.tables), Level: w.level, Dead: w.dead()}
+	look := api.Look{Vars: len(w.sizes), Tables: len(w.tables), Level: w.trail.Level(), Dead: w.dead()}
 	for _, domain := range w.domains {
 		look.Left += domain.Len()
 		if domain.Len() == 1 {

@@ -36,13 +36,13 @@ func domains(t *testing.T, w *fretwork.Work) [][]int {
 	return all
 }
 
-// left checks the domains, and that Look tells the same of them.
+// left checks the domains, and that Look tells the same of them, whatever the tables and the level are.
 func left(t *testing.T, w *fretwork.Work, want ...[]int) {
 	t.Helper()
 	if got := domains(t, w); !slices.EqualFunc(got, want, slices.Equal) {
 		t.Fatalf("domains %v, want %v", got, want)
 	}
-	look := api.Look{Vars: len(want), Tables: w.Look().Tables}
+	look := api.Look{Vars: len(want), Tables: w.Look().Tables, Level: w.Look().Level}
 	for _, domain := range want {
 		look.Left += len(domain)
 		if len(domain) == 1 {
@@ -366,23 +366,35 @@ func (x *trial) each(same func(ref *reference), call func(k int, w *fretwork.Wor
 	}
 }
 
-func (x *trial) step(d *dice, sizes []int) {
+// post adds a table by Way 1, by Way 2, and by one of both.
+func (x *trial) post(table api.Table, mixed int) {
+	x.Helper()
+	x.each(func(ref *reference) { ref.post(table) }, func(k int, w *fretwork.Work) api.Errno {
+		table.Way = []int{1, 2, mixed}[k]
+		return w.Post(table)
+	})
+}
+
+// take takes values out of a domain.
+func (x *trial) take(d *dice, sizes []int) {
+	x.Helper()
 	v := d.below(len(sizes))
 	value := d.below(sizes[v])
-	switch d.below(8) {
-	case 0:
+	if d.below(3) == 0 {
 		x.each(func(ref *reference) { ref.fix(v, value) },
 			func(_ int, w *fretwork.Work) api.Errno { return w.Fix(v, value) })
-	case 1, 2:
-		x.each(func(ref *reference) { ref.remove(v, value) },
-			func(_ int, w *fretwork.Work) api.Errno { return w.Remove(v, value) })
-	default:
-		table, mixed := d.table(sizes), 1+d.below(2)
-		x.each(func(ref *reference) { ref.post(table) }, func(k int, w *fretwork.Work) api.Errno {
-			table.Way = []int{1, 2, mixed}[k]
-			return w.Post(table)
-		})
+		return
 	}
+	x.each(func(ref *reference) { ref.remove(v, value) },
+		func(_ int, w *fretwork.Work) api.Errno { return w.Remove(v, value) })
+}
+
+func (x *trial) step(d *dice, sizes []int) {
+	if d.below(8) < 3 {
+		x.take(d, sizes)
+		return
+	}
+	x.post(d.table(sizes), 1+d.below(2))
 }
 
 func TestClosureAgainstReference(t *testing.T) {

@@ -39,6 +39,15 @@ func (r *reference) remove(v, value int) {
 	r.close()
 }
 
+// copied is needed where the domains are held on to: fix and remove write into them.
+func (r *reference) copied() [][]int {
+	var all [][]int
+	for _, domain := range r.domains {
+		all = append(all, slices.Clone(domain))
+	}
+	return all
+}
+
 func (r *reference) dead() bool {
 	return slices.ContainsFunc(r.domains, func(domain []int) bool { return len(domain) == 0 })
 }

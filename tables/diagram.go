@@ -88,6 +88,9 @@ func (d *diagram) Narrow(domains values.Domains) values.Domains {
 	return d.replaced(domains, c.supported)
 }
 
+// State is a method of Table.
+func (d *diagram) State() State { return State{nodes: d.nodes, root: d.root} }
+
 // cutter builds what the domains leave of a diagram.
 type cutter struct {
 	*builder

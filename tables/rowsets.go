@@ -47,6 +47,9 @@ func (r *rowSets) Narrow(domains values.Domains) values.Domains {
 	return r.replaced(domains, supported)
 }
 
+// State is a method of Table.
+func (r *rowSets) State() State { return State{live: r.live} }
+
 // drop lets go of the rows that have an entry without any value in its domain.
 func (r *rowSets) drop(domains values.Domains) {
 	for i, v := range r.vars {

@@ -14,13 +14,32 @@ const (
 	wayDiagram = 2
 )
 
-// Table is what is left of a posted table under domains that only shrink.
+// Table is what is left of a posted table under domains that only shrink, but where it is put back together with them.
 type Table interface {
 	// Changed tells whether a variable of the table has another domain in one than in the other.
 	Changed(before, after values.Domains) bool
 	// Narrow answers the domains with nothing but supported values for the table's variables, and lets go of what
 	// the domains rule out. It is asked only while every variable has a value left.
 	Narrow(domains values.Domains) values.Domains
+	// State is what Narrow changes, as it is now.
+	State() State
+}
+
+// State is what is left of a table, of either kind.
+type State struct {
+	live  rowSet // of sets of rows
+	nodes []node // of a diagram
+	root  int    // of a diagram
+}
+
+// PutBack gives t a state that it had.
+func PutBack(t Table, was State) {
+	switch t := t.(type) {
+	case *rowSets:
+		t.live = was.live
+	case *diagram:
+		t.nodes, t.root = was.nodes, was.root
+	}
 }
 
 // Make makes a table of t, which must be valid; it keeps nothing of t's memory.

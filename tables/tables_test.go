@@ -68,6 +68,41 @@ func TestNarrowStepByStep(t *testing.T) {
 	})
 }
 
+// Each step is put back to the one ahead of it, and narrowed another way from there.
+func TestPutBack(t *testing.T) {
+	domains := full(3, 3)
+	for _, not := range []bool{false, true} {
+		table := api.Table{Vars: []int{0, 1}, Rows: [][]int{{0, 0}, {0, 1}, {1, 2}, {2, api.Any}}, Not: not}
+		others := [2]values.Set{values.One(0) | values.One(1), values.One(2)}
+		if not {
+			others[0], others[1] = others[1], others[0]
+		}
+		bothWays(t, table, domains, func(t *testing.T, made Table) {
+			first := made.Narrow(domains)
+			was := made.State()
+			for range 2 {
+				for value, want := range others {
+					next := first
+					next[0] = values.One(value)
+					if got := made.Narrow(next); got[1] != want {
+						t.Errorf("with 0 = %d, 1 is %v, want %v", value, got[1], want)
+					}
+					inner := made.State()
+					made.Narrow(values.Domains{values.One(value), values.One(1)})
+					PutBack(made, inner)
+					if got := made.Narrow(next); got[1] != want {
+						t.Errorf("put back with 0 = %d, 1 is %v, want %v", value, got[1], want)
+					}
+					PutBack(made, was)
+				}
+			}
+			if got := made.Narrow(first); got != first {
+				t.Errorf("Narrow of what was put back = %v, want %v", got, first)
+			}
+		})
+	}
+}
+
 func TestChanged(t *testing.T) {
 	domains := full(2, 2, 2)
 	bothWays(t, api.Table{Vars: []int{2, 0}}, domains, func(t *testing.T, made Table) {
