@@ -16,6 +16,7 @@ type Work struct {
 	domains values.Domains
 	tables  []tables.Table
 	trail   trail.Trail
+	busy    bool // while a going through the solutions is under way
 }
 
 // New makes a fretwork (P3).
@@ -36,6 +37,8 @@ func New(sizes ...int) (*Work, api.Errno) {
 // Post a table (P4).
 func (w *Work) Post(t api.Table) api.Errno {
 	switch {
+	case w.busy:
+		return api.ErrBusy
 	case !tables.Valid(t, w.sizes):
 		return api.ErrArg
 	case len(w.tables) == api.MaxTables:
@@ -72,7 +75,10 @@ func (w *Work) Remove(v, value int) api.Errno {
 
 // Push a level (P6).
 func (w *Work) Push() api.Errno {
-	if w.trail.Level() == api.MaxLevel {
+	switch {
+	case w.busy:
+		return api.ErrBusy
+	case w.trail.Level() == api.MaxLevel:
 		return api.ErrFull
 	}
 	w.trail.Push()
@@ -81,7 +87,10 @@ func (w *Work) Push() api.Errno {
 
 // Pop a level (P6).
 func (w *Work) Pop() api.Errno {
-	if w.trail.Level() == 0 {
+	switch {
+	case w.busy:
+		return api.ErrBusy
+	case w.trail.Level() == 0:
 		return api.ErrLevel
 	}
 	w.trail.Pop()
@@ -90,7 +99,10 @@ func (w *Work) Pop() api.Errno {
 
 // Domain of a variable (P7).
 func (w *Work) Domain(v int) ([]int, api.Errno) {
-	if !w.has(v) {
+	switch {
+	case w.busy:
+		return nil, api.ErrBusy
+	case !w.has(v):
 		return nil, api.ErrArg
 	}
 	return w.domains[v].List(), api.OK
@@ -98,6 +110,9 @@ func (w *Work) Domain(v int) ([]int, api.Errno) {
 
 // Look at it (P7).
 func (w *Work) Look() api.Look {
+	if w.busy {
+		return api.Look{}
+	}
 	look := api.Look{Vars: len(w.sizes), Tables: len(w.tables), Level: w.trail.Level(), Dead: w.dead()}
 	for _, domain := range w.domains {
 		look.Left += domain.Len()
@@ -109,19 +124,36 @@ func (w *Work) Look() api.Look {
 }
 
 // Solutions goes through all that fits (P8).
-func (w *Work) Solutions() func(yield func([]int) bool) { return nil }
+func (w *Work) Solutions() func(yield func([]int) bool) { return w.goThrough }
 
 // Count tells how many there are (P9).
-func (w *Work) Count(most int) (int, api.Errno) { return 0, api.OK }
+func (w *Work) Count(most int) (int, api.Errno) {
+	switch {
+	case w.busy:
+		return 0, api.ErrBusy
+	case most < 0:
+		return 0, api.ErrArg
+	}
+	count := 0
+	for range w.Solutions() {
+		if count == most {
+			break
+		}
+		count++
+	}
+	return count, api.OK
+}
 
 func (w *Work) has(v int) bool { return v >= 0 && v < len(w.sizes) }
 
 // fault is the error that Fix and Remove share.
 func (w *Work) fault(v, value int) api.Errno {
-	if !w.has(v) || value < 0 || value >= w.sizes[v] {
+	switch {
+	case w.busy:
+		return api.ErrBusy
+	case !w.has(v) || value < 0 || value >= w.sizes[v]:
 		return api.ErrArg
-	}
-	if w.dead() {
+	case w.dead():
 		return api.ErrDead
 	}
 	return api.OK

@@ -89,3 +89,35 @@ func TestP2DomainsAreNewMemory(t *testing.T) {
 	}
 	left(t, w, []int{1, 2, 3}, []int{0, 1, 2, 3})
 }
+
+// Each list that is yielded is written over, to the end of its spare room, and grown, while the going goes on.
+func TestP2YieldedListsAreNewMemory(t *testing.T) {
+	eachWay(t, func(t *testing.T, way int) {
+		w := made(t, 4, 4, 4)
+		answers(t, w.Post(sums(way)), api.OK)
+		want := solutions(w)
+		var kept [][]int
+		count := 0
+		for list := range w.Solutions() {
+			if !slices.Equal(list, want[count]) {
+				t.Errorf("solution %d is %v, want %v", count, list, want[count])
+			}
+			count++
+			for i := range list[:cap(list)] {
+				list[:cap(list)][i] = 50 + count
+			}
+			kept = append(kept, append(list, 50+count))
+		}
+		if count != len(want) || count != 10 {
+			t.Errorf("%d solutions, want %d", count, len(want))
+		}
+		for k, list := range kept {
+			mark := 51 + k
+			if !slices.Equal(list, []int{mark, mark, mark, mark}) {
+				t.Errorf("solution %d was written into by another: %v", k, list)
+			}
+		}
+		tells(t, w, want...)
+		left(t, w, []int{0, 1, 2, 3}, []int{0, 1, 2, 3}, []int{0, 1, 2, 3})
+	})
+}

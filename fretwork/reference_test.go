@@ -96,6 +96,34 @@ func allows(t api.Table, list []int) bool {
 	return covered != t.Not
 }
 
+// fitting has the lists out of domains that begin with list and that all tables allow, in order.
+func fitting(tables []api.Table, domains [][]int, list ...int) [][]int {
+	if len(list) == len(domains) {
+		if allAllow(tables, list) {
+			return [][]int{list}
+		}
+		return nil
+	}
+	var all [][]int
+	for _, value := range domains[len(list)] {
+		all = append(all, fitting(tables, domains, append(slices.Clone(list), value)...)...)
+	}
+	return all
+}
+
+func allAllow(tables []api.Table, list []int) bool {
+	for _, t := range tables {
+		var part []int
+		for _, v := range t.Vars {
+			part = append(part, list[v])
+		}
+		if !allows(t, part) {
+			return false
+		}
+	}
+	return true
+}
+
 // dice are numbers that look thrown and are the same in every run.
 type dice uint64
 

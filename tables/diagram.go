@@ -88,6 +88,16 @@ func (d *diagram) Narrow(domains values.Domains) values.Domains {
 	return d.replaced(domains, c.supported)
 }
 
+// Allows is a method of Table.
+func (d *diagram) Allows(list []int) bool {
+	at := d.root
+	for _, v := range d.vars {
+		// The node of nothing leads to nothing again.
+		at = d.nodes[at].next[list[v]]
+	}
+	return at == end
+}
+
 // State is a method of Table.
 func (d *diagram) State() State { return State{nodes: d.nodes, root: d.root} }
 

@@ -47,6 +47,15 @@ func (r *rowSets) Narrow(domains values.Domains) values.Domains {
 	return r.replaced(domains, supported)
 }
 
+// Allows is a method of Table.
+func (r *rowSets) Allows(list []int) bool {
+	covering := r.live
+	for i, v := range r.vars {
+		covering &= r.bearer[i][list[v]]
+	}
+	return (covering != 0) != r.not
+}
+
 // State is a method of Table.
 func (r *rowSets) State() State { return State{live: r.live} }
 

@@ -21,6 +21,11 @@ type Table interface {
 	// Narrow answers the domains with nothing but supported values for the table's variables, and lets go of what
 	// the domains rule out. It is asked only while every variable has a value left.
 	Narrow(domains values.Domains) values.Domains
+	// Last is the greatest of the table's variables.
+	Last() int
+	// Allows tells whether the table allows its variables' values in list, which has one for each variable up to
+	// Last at least, all of them out of the domains.
+	Allows(list []int) bool
 	// State is what Narrow changes, as it is now.
 	State() State
 }
@@ -109,6 +114,9 @@ func (s scope) Changed(before, after values.Domains) bool {
 	}
 	return false
 }
+
+// Last is a method of both kinds of Table.
+func (s scope) Last() int { return slices.Max(s.vars) }
 
 // replaced answers the domains with those of the table's variables taken from supported.
 func (s scope) replaced(domains, supported values.Domains) values.Domains {

@@ -119,6 +119,61 @@ func TestChanged(t *testing.T) {
 	})
 }
 
+func TestLast(t *testing.T) {
+	domains := full(2, 2, 2, 2)
+	lasts := map[int][]int{0: {0}, 1: {1, 0}, 2: {0, 2}, 3: {1, 3, 2, 0}}
+	for want, vars := range lasts {
+		bothWays(t, api.Table{Vars: vars}, domains, func(t *testing.T, made Table) {
+			if got := made.Last(); got != want {
+				t.Errorf("Last of %v = %d", vars, got)
+			}
+		})
+	}
+}
+
+// The table has variables 2 and 0: of a list it looks at these alone, in this order.
+func TestAllows(t *testing.T) {
+	domains := full(3, 2, 4)
+	for _, not := range []bool{false, true} {
+		table := api.Table{Vars: []int{2, 0}, Rows: [][]int{{3, 0}, {0, api.Any}, {api.Any, 1}, {2, 2}}, Not: not}
+		bothWays(t, table, domains, func(t *testing.T, made Table) {
+			check := func(domains values.Domains) {
+				t.Helper()
+				for first := range domains[0].Each {
+					for last := range domains[2].Each {
+						covered := last == 3 && first == 0 || last == 0 || first == 1 || last == 2 && first == 2
+						if got := made.Allows([]int{first, 1, last}); got != (covered != not) {
+							t.Errorf("Not %v: Allows %d and %d = %v", not, last, first, got)
+						}
+					}
+				}
+			}
+			check(domains)
+			made.Narrow(domains)
+			check(domains)
+			was := made.State()
+			fewer := values.Domains{values.One(0) | values.One(2), values.Below(2), values.Below(4) &^ values.One(1)}
+			check(made.Narrow(fewer))
+			check(fewer)
+			PutBack(made, was)
+			check(domains)
+		})
+	}
+}
+
+func TestAllowsWithoutRows(t *testing.T) {
+	domains := full(2, 2)
+	for _, not := range []bool{false, true} {
+		bothWays(t, api.Table{Vars: []int{1, 0}, Not: not}, domains, func(t *testing.T, made Table) {
+			for k := range 4 {
+				if got := made.Allows([]int{k / 2, k % 2}); got != not {
+					t.Errorf("Not %v: Allows %d and %d = %v", not, k%2, k/2, got)
+				}
+			}
+		})
+	}
+}
+
 func TestRowSetsLetRowsGo(t *testing.T) {
 	domains := full(3, 3)
 	table := api.Table{Vars: []int{0, 1}, Rows: [][]int{{0, 1}, {1, 2}, {api.Any, 0}}, Way: wayRows}
